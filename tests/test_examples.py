@@ -1,0 +1,27 @@
+"""The examples of the document, with just the answers shown there."""
+
+import doctest
+import pathlib
+import unittest
+
+EXAMPLES = pathlib.Path(__file__).resolve().parent / "examples"
+
+
+class TestExamples(unittest.TestCase):
+    def run_stage(self, number, least):
+        failed, tried = doctest.testfile(str(EXAMPLES / f"stage{number}.txt"), module_relative=False)
+        self.assertEqual(failed, 0)
+        self.assertGreaterEqual(tried, least)
+
+    def test_stage_1(self):
+        self.run_stage(1, 15)
+
+    def test_stage_2(self):
+        self.run_stage(2, 12)
+
+    def test_stage_3(self):
+        self.run_stage(3, 16)
+
+
+if __name__ == "__main__":
+    unittest.main()

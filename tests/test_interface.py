@@ -1,0 +1,62 @@
+"""The interface: each name is defined in its file, with just its arguments."""
+
+import ast
+import pathlib
+import unittest
+
+PACKAGE = pathlib.Path(__file__).resolve().parent.parent / "enoughlooks"
+FUNCTIONS = {
+    "forms": ["is_integer(thing)", "is_name(thing)", "is_row(thing)", "is_table(thing)", "is_tables(thing)", "is_atom(thing)",
+              "is_range(thing)", "is_question(thing)", "is_edit(thing)", "fits(question, tables)"],
+    "tables": ["has_row(table, row)", "is_there(rows, prefix)", "with_row(table, row)", "without_row(table, row)",
+               "led_rows(table, places)", "nearest_by_all(rows, prefix, x)", "changed(tables, edits)"],
+    "texts": ["show_tables(tables)", "read_tables(text)"],
+    "pages": ["is_page(thing)", "is_page_tree(thing)", "rows_of(tree)", "height(tree)", "most_height(many)", "fewest_pages(many)"],
+    "trees": ["tree_of(many, rows)", "put(tree, row)", "take(tree, row)", "has(tree, row)", "new_pages(tree, other)",
+              "nearest(tree, prefix, x)", "pages_read(tree, prefix, x)", "rows_behind(tree, prefix)"],
+    "disk": ["is_files(thing)", "done(files, deeds)", "cut(files, deeds, many, fates)"],
+    "journal": ["page_text(page)", "root_text(root)", "read_page(text)", "read_root(text)", "is_sound(thing)", "root_in(files)",
+                "tree_in(files, name)", "idle_paths(files)", "tables_in(files)", "mend_deeds(files)", "commit_deeds(files, changes)"],
+}
+CLASSES = {
+    "disk": {"Disk": ["__init__(self, files)", "__eq__(self, other)", "files(self)", "do(self, deeds)", "fuse(self, many, fates)",
+                      "power(self)", "has_power(self)", "twin(self)"]},
+    "store": {"Store": ["__init__(self, files)", "__eq__(self, other)", "tables(self)", "notes(self)", "commits(self)",
+                        "nearest(self, name, prefix, x)", "commit(self, changes)", "mend(self)", "fuse(self, many, fates)",
+                        "power(self)", "has_power(self)", "files(self)", "twin(self)"]},
+    "errors": {"Wrong": ["__init__(self, place)"], "NoTable": ["__init__(self, name)"], "Twice": ["__init__(self, name)"],
+               "BadRow": ["__init__(self, name, row)"], "NoText": ["__init__(self, line)"], "TooMany": ["__init__(self, most)"],
+               "NotFit": ["__init__(self, index)"], "NoPoint": ["__init__(self, index)"], "NoName": ["__init__(self, name)"],
+               "LookError": [], "NotNested": [], "NoShape": [], "PowerCut": [], "NoCommand": []},
+}
+
+
+def signatures(body):
+    """The functions that stand in a body, as they are called."""
+    return [f"{node.name}({ast.unparse(node.args)})" for node in body if isinstance(node, ast.FunctionDef)]
+
+
+class TestInterface(unittest.TestCase):
+    def body(self, name):
+        return ast.parse((PACKAGE / f"{name}.py").read_text()).body
+
+    def test_functions(self):
+        for name, expected in FUNCTIONS.items():
+            found = signatures(self.body(name))
+            for each in expected:
+                self.assertIn(each, found, name)
+
+    def test_classes(self):
+        for name, expected in CLASSES.items():
+            classes = {node.name: node for node in self.body(name) if isinstance(node, ast.ClassDef)}
+            for each, methods in expected.items():
+                found = signatures(classes[each].body)
+                for method in methods:
+                    self.assertIn(method, found, each)
+
+    def test_the_init_file_is_empty(self):
+        self.assertEqual((PACKAGE / "__init__.py").read_bytes(), b"")
+
+
+if __name__ == "__main__":
+    unittest.main()
