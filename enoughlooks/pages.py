@@ -57,15 +57,16 @@ def most_height(many):
 
 def fewest_pages(many):
     """How few pages a PAGE TREE of so many rows can have."""
-    level = max(1, _groups_of(many))
+    level = max(1, groups_of(many))
     total = level
     while level > 1:
-        level = _groups_of(level)
+        level = groups_of(level)
         total += level
     return total
 
 
-def _groups_of(many):
+def groups_of(many):
+    """On how few pages so many entries can stand."""
     return (many + MOST_ENTRIES - 1) // MOST_ENTRIES
 
 

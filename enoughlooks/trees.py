@@ -1,6 +1,6 @@
 """Trees of pages that stay as they are: a change makes new pages beside them."""
 
-from enoughlooks.pages import FEWEST_ENTRIES, MOST_ENTRIES
+from enoughlooks.pages import FEWEST_ENTRIES, MOST_ENTRIES, groups_of
 
 
 def tree_of(many, rows):
@@ -126,7 +126,7 @@ def _top(made, first, kind, entries):
 def _paged(made, first, kind, entries):
     """Puts entries on as few new pages as can be, equally many on each but for one; returns the children for these."""
     many = len(entries)
-    count = (many + MOST_ENTRIES - 1) // MOST_ENTRIES
+    count = groups_of(many)
     children = []
     for index in range(count):
         group = entries[index * many // count:(index + 1) * many // count]
