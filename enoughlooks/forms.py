@@ -15,6 +15,11 @@ def is_from(thing, least):
     return is_integer(thing) and thing >= least
 
 
+def is_bound(thing):
+    """Whether a value is an integer, or None for no bound."""
+    return thing is None or is_integer(thing)
+
+
 def is_tuple_of(thing, many):
     """Whether a value is a tuple with so many members."""
     return isinstance(thing, tuple) and len(thing) == many
@@ -30,6 +35,13 @@ def is_name(thing):
 def is_row(thing):
     """Whether a value is a ROW."""
     return isinstance(thing, tuple) and len(thing) >= 1 and all([is_integer(part) for part in thing])
+
+
+def are_columns(thing):
+    """Whether a value is a tuple of unlike NAMES, at least one."""
+    if not isinstance(thing, tuple) or len(thing) < 1:
+        return False
+    return all([is_name(column) for column in thing]) and _are_unlike(thing)
 
 
 def is_lot_of_rows(thing):
@@ -55,7 +67,7 @@ def is_atom(thing):
     """Whether a value is an ATOM."""
     if not is_tuple_of(thing, 3) or thing[0] not in ("has", "not") or not is_name(thing[1]):
         return False
-    return _are_columns(thing[2])
+    return are_columns(thing[2])
 
 
 def is_range(thing):
@@ -63,7 +75,7 @@ def is_range(thing):
     if not is_tuple_of(thing, 3) or not is_name(thing[0]):
         return False
     low, high = thing[1], thing[2]
-    if not (_is_bound(low) and _is_bound(high)):
+    if not (is_bound(low) and is_bound(high)):
         return False
     return low is None or high is None or low <= high
 
@@ -73,7 +85,7 @@ def is_question(thing):
     if not is_tuple_of(thing, 3):
         return False
     columns, atoms, ranges = thing
-    if not _are_columns(columns) or not isinstance(atoms, tuple) or not isinstance(ranges, tuple):
+    if not are_columns(columns) or not isinstance(atoms, tuple) or not isinstance(ranges, tuple):
         return False
     if not all([is_atom(atom) for atom in atoms]) or not all([is_range(bounds) for bounds in ranges]):
         return False
@@ -97,18 +109,8 @@ def fits(question, tables):
     return all([name in tables and tables[name][0] == len(columns) for word, name, columns in atoms])
 
 
-def _is_bound(thing):
-    return thing is None or is_integer(thing)
-
-
 def _are_unlike(names):
     return len(set(names)) == len(names)
-
-
-def _are_columns(thing):
-    if not isinstance(thing, tuple) or len(thing) < 1:
-        return False
-    return all([is_name(column) for column in thing]) and _are_unlike(thing)
 
 
 def _agree(columns, atoms, ranges):

@@ -22,6 +22,15 @@ class TestExamples(unittest.TestCase):
     def test_stage_3(self):
         self.run_stage(3, 16)
 
+    def test_stage_4(self):
+        self.run_stage(4, 11)
+
+    def test_stage_5(self):
+        self.run_stage(5, 12)
+
+    def test_stage_6(self):
+        self.run_stage(6, 6)
+
 
 if __name__ == "__main__":
     unittest.main()

@@ -17,6 +17,16 @@ FUNCTIONS = {
     "disk": ["is_files(thing)", "done(files, deeds)", "cut(files, deeds, many, fates)"],
     "journal": ["page_text(page)", "root_text(root)", "read_page(text)", "read_root(text)", "is_sound(thing)", "root_in(files)",
                 "tree_in(files, name)", "idle_paths(files)", "tables_in(files)", "mend_deeds(files)", "commit_deeds(files, changes)"],
+    "questions": ["atoms_of(question, column)", "range_of(question, column)", "part_of(question, atom, point)", "names_of(question)",
+                  "lets(question, column, value)", "is_point(question, thing)", "narrowed(question, column, low, high)",
+                  "in_order(question, columns)"],
+    "reader": ["show_question(question)", "read_question(text)"],
+    "meaning": ["candidates(question, tables, column)", "is_answer(question, tables, point)", "answers(question, tables)"],
+    "forests": ["crossing(question)", "is_nested(question)", "path_of(question, column)", "children_of(question, column)",
+                "roots_of(question)", "way_of(question, atom)", "through(question, column)", "ending(question, column)",
+                "on_way(question, atom, row)", "off_way(question, atom, row)", "way_rows(question, tables, atom)",
+                "parent_of(question, column)", "end_of(question, atom)", "column_factor(question, column)", "factor(question)"],
+    "looks": ["is_look(question, tables, thing)", "told(question, tables, look)", "box_of(look, its)"],
 }
 CLASSES = {
     "disk": {"Disk": ["__init__(self, files)", "__eq__(self, other)", "files(self)", "do(self, deeds)", "fuse(self, many, fates)",

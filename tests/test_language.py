@@ -84,7 +84,8 @@ class TestLanguage(unittest.TestCase):
             self.assertFalse(set(names) & set(dir(builtins)), name)
 
     def test_imports(self):
-        order = ["errors", "forms", "tables", "texts", "pages", "trees", "disk", "journal", "store"]
+        order = ["errors", "forms", "tables", "texts", "pages", "trees", "disk", "journal", "store", "questions", "reader", "meaning",
+                 "forests", "looks"]
         self.assertEqual(sorted([*order, "__init__"]), sorted(self.texts))
         for place, node in self.nodes(ast.ImportFrom):
             package, module = node.module.split(".")
