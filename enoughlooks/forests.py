@@ -103,7 +103,7 @@ def _crossed(mine, its):
 def _is_above(question, one, other):
     """Whether a column is ABOVE another one."""
     mine, its = atoms_of(question, one), atoms_of(question, other)
-    if one == other or not all([atom in mine for atom in its]):
+    if not all([atom in mine for atom in its]):
         return False
     return len(mine) > len(its) or question[0].index(one) < question[0].index(other)
 

@@ -1,5 +1,6 @@
 """Nested questions, looks and boxes as the document tells them, in the plainest way; and drawn questions and tables."""
 
+import functools
 import itertools
 
 from values import drawn_rows
@@ -29,6 +30,7 @@ def plain_above(question, one, other):
     return its < mine or (its == mine and question[0].index(one) < question[0].index(other))
 
 
+@functools.lru_cache(maxsize=10000)
 def plain_path(question, column):
     """All orders of the columns above one and of it are tried: just one has each above all behind it."""
     those = [other for other in question[0] if plain_above(question, other, column)] + [column]
@@ -43,11 +45,13 @@ def plain_parent(question, column):
     return above[-1] if above else None
 
 
+@functools.lru_cache(maxsize=10000)
 def plain_children(question, parent):
     """The children of a column; the roots of None."""
     return tuple(column for column in question[0] if plain_parent(question, column) == parent)
 
 
+@functools.lru_cache(maxsize=10000)
 def plain_way(question, atom):
     columns = question[1][atom][2]
     found = [plain_path(question, column) for column in columns if set(plain_path(question, column)) == set(columns)]
@@ -108,9 +112,14 @@ def plain_boxes(question, tables):
     return sorted(found, key=place)
 
 
+@functools.lru_cache(maxsize=10000)
+def plain_places_of(question, atom):
+    """The places, in a POINT, of the values at the WAY of an ATOM."""
+    return [question[0].index(column) for column in plain_way(question, atom)]
+
+
 def plain_holds(question, box, point):
-    named = dict(zip(question[0], point))
-    values = tuple(named[column] for column in plain_way(question, box[1]))
+    values = tuple([point[place] for place in plain_places_of(question, box[1])])
     if box[0] == "row":
         return values == box[2]
     word, atom, prefix, low, high = box
@@ -118,6 +127,7 @@ def plain_holds(question, box, point):
     return values[:len(prefix)] == prefix and (low is None or value > low) and (high is None or value < high)
 
 
+@functools.lru_cache(maxsize=10000)
 def plain_range(question, column):
     return next(((low, high) for name, low, high in question[2] if name == column), (None, None))
 

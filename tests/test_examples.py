@@ -29,7 +29,13 @@ class TestExamples(unittest.TestCase):
         self.run_stage(5, 12)
 
     def test_stage_6(self):
-        self.run_stage(6, 6)
+        self.run_stage(6, 13)
+
+    def test_stage_7(self):
+        self.run_stage(7, 15)
+
+    def test_stage_8(self):
+        self.run_stage(8, 12)
 
 
 if __name__ == "__main__":

@@ -4,10 +4,10 @@ import copy
 import itertools
 import unittest
 
-from enoughlooks.forests import children_of, column_factor, crossing, end_of, ending, factor, is_nested, off_way, on_way, parent_of, path_of
-from enoughlooks.forests import roots_of, through, way_of, way_rows
-from plain_questions import drawn_any_question, drawn_question, drawn_tables, nested_questions, plain_atoms, plain_children, plain_cross
-from plain_questions import plain_nested, plain_parent, plain_path, plain_way, plain_way_rows
+from enoughlooks.forests import children_of, column_factor, crossing, end_of, ending, factor, is_nested, off_way, on_way, parent_of
+from enoughlooks.forests import path_of, roots_of, through, way_of, way_rows
+from plain_questions import drawn_any_question, drawn_question, drawn_tables, nested_questions, plain_atoms, plain_children
+from plain_questions import plain_cross, plain_nested, plain_parent, plain_path, plain_way, plain_way_rows
 from values import ascending, drawing
 
 CROSSED = (("a", "b"), (("has", "r", ("a",)), ("has", "s", ("a", "b")), ("has", "t", ("b",))), ())
@@ -37,8 +37,8 @@ class TestCrossing(unittest.TestCase):
         self.assertEqual(crossing(question), ("a", "b", 0, 2, 1))
 
     def test_several_ways(self):
-        triangle = (("x", "y", "z"), (("has", "u", ("z", "x")), ("has", "r", ("x", "y")), ("has", "s", ("y", "z")), ("not", "t", ("z", "y")),
-                                      ("has", "v", ("x",)), ("not", "w", ("y", "x"))), ())
+        triangle = (("x", "y", "z"), (("has", "u", ("z", "x")), ("has", "r", ("x", "y")), ("has", "s", ("y", "z")),
+                                      ("not", "t", ("z", "y")), ("has", "v", ("x",)), ("not", "w", ("y", "x"))), ())
         self.assertEqual(crossing(triangle), ("x", "y", 0, 2, 1))
         self.assertEqual(crossing((("z", "y", "x"),) + triangle[1:]), ("z", "y", 0, 1, 2))
         self.assertEqual(crossing((("z", "x", "y"),) + triangle[1:]), ("z", "x", 2, 1, 0))
@@ -137,8 +137,8 @@ class TestForest(unittest.TestCase):
 
 class TestFactor(unittest.TestCase):
     def test_column_factor(self):
-        atoms = (("has", "r", ("a",)), ("has", "s", ("b", "a")), ("not", "n", ("a", "b")), ("has", "t", ("a", "c")), ("not", "m", ("a",)),
-                 ("has", "w", ("d",)), ("not", "k", ("c", "a")), ("not", "l", ("a", "c")))
+        atoms = (("has", "r", ("a",)), ("has", "s", ("b", "a")), ("not", "n", ("a", "b")), ("has", "t", ("a", "c")),
+                 ("not", "m", ("a",)), ("has", "w", ("d",)), ("not", "k", ("c", "a")), ("not", "l", ("a", "c")))
         question = (("c", "d", "a", "b"), atoms, ())
         self.assertEqual([column_factor(question, column) for column in "abcd"], [4 + 2 * 3, 2, 3, 1])
         self.assertEqual(factor(question), 2 * 10)

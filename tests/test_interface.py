@@ -27,6 +27,11 @@ FUNCTIONS = {
                 "on_way(question, atom, row)", "off_way(question, atom, row)", "way_rows(question, tables, atom)",
                 "parent_of(question, column)", "end_of(question, atom)", "column_factor(question, column)", "factor(question)"],
     "looks": ["is_look(question, tables, thing)", "told(question, tables, look)", "box_of(look, its)"],
+    "boxes": ["is_true_box(question, tables, thing)", "holds(question, box, point)", "is_cover(question, tables, thing)",
+              "true_boxes(question, tables)", "box_at(question, tables, point)", "left_by(question, boxes)"],
+    "papers": ["boxes_in(paper)", "size_of(paper)", "parts_of(paper)", "shape_told(paper)"],
+    "judge": ["is_paper(question, tables, thing)", "plain_paper(question, tables)"],
+    "least": ["least(question, tables)", "least_paper(question, tables)", "least_below(question, tables, column, prefix)"],
 }
 CLASSES = {
     "disk": {"Disk": ["__init__(self, files)", "__eq__(self, other)", "files(self)", "do(self, deeds)", "fuse(self, many, fates)",

@@ -71,8 +71,10 @@ class TestRead(unittest.TestCase):
                 self.assertEqual(read_question(text[:-2])[2], (("a", *bounds),))
 
     def test_no_line_of_a_question(self):
-        for line in ["x", "has", "has s", "not", "not n", "range", "range a", "range a 1", "range a 1 2 3", "Has s a", "has S a", "has s A",
-                     "has s a a", "has 1 a", "has s 1", "has s -", "a", "rang a 1 2", "ranges a 1 2", "columns", "columns a a", "columns -",
+        for line in ["x", "has", "has s", "not", "not n", "range", "range a", "range a 1", "range a 1 2 3", "Has s a", "has S a",
+                     "has s A",
+                     "has s a a", "has 1 a", "has s 1", "has s -", "a", "rang a 1 2", "ranges a 1 2", "columns", "columns a a",
+                     "columns -",
                      "has s\ta", "has\u00a0s a", "\u00e4", "has s a\r", "range A 1 2", "table r 1", "- -", "range a 1 -1",
                      "has " + "s" * 21 + " a", "has s " + "a" * 21, "range " + "a" * 21 + " 1 2", "columns " + "a" * 21]:
             self.assertEqual(self.line_of(BASE + line + "\nrange q 1 2"), 2, line)
