@@ -2,10 +2,9 @@
 
 from enoughlooks.forests import children_of, on_way, roots_of, way_of, way_rows
 from enoughlooks.forms import is_bound, is_integer, is_row, is_tuple_of
-from enoughlooks.gaps import gaps_of, integers_in, is_within, many_in, runs_left, values_behind
-from enoughlooks.looks import is_atom_index, is_prefix
+from enoughlooks.gaps import gap_at, gaps_of, integers_in, is_within, many_in, runs_left, values_behind
+from enoughlooks.looks import is_atom_index, is_prefix, layout
 from enoughlooks.questions import is_between, part_of, range_of
-from enoughlooks.tables import nearest_by_all
 
 MOST_PLACES = 2000
 
@@ -31,19 +30,25 @@ def holds(question, box, point):
 
 def box_at(question, tables, point):
     """The first TRUE BOX that HOLDS a POINT, None if the point is an ANSWER."""
+    boxes = boxes_at(question, layout(question, tables), point)
+    return boxes[0] if boxes != [] else None
+
+
+def boxes_at(question, laid, point):
+    """The list of all TRUE BOXES, by a layout, that HOLD a POINT, in order."""
+    found = []
     for atom, (word, name, columns) in enumerate(question[1]):
-        rows = way_rows(question, tables, atom)
         row = on_way(question, atom, part_of(question, atom, point))
         if word == "not":
-            if row in rows:
-                return "row", atom, row
+            found.extend([("row", atom, row)] if row in laid[atom] else [])
             continue
         # Behind the first value that is not there no prefix is, so an atom has one box at most.
         for size, value in enumerate(row):
-            there, low, high = nearest_by_all(rows, row[:size], value)
-            if not there:
-                return "gap", atom, row[:size], low, high
-    return None
+            gap = gap_at(laid[atom][row[:size]], value)
+            if gap is not None:
+                found.append(("gap", atom, row[:size]) + gap)
+                break
+    return found
 
 
 def left_by(question, boxes):

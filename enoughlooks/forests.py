@@ -42,6 +42,13 @@ def roots_of(question):
     return tuple([column for column in question[0] if parent_of(question, column) is None])
 
 
+def forest_of(question):
+    """The dict from each column to the tuple of its children, with the ROOTS at None."""
+    forest = {column: children_of(question, column) for column in question[0]}
+    forest[None] = roots_of(question)
+    return forest
+
+
 def way_of(question, atom):
     """The WAY of an ATOM."""
     return _downward(question, question[1][atom][2])

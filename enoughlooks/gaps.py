@@ -22,11 +22,23 @@ def gaps_of(values):
 
 def gap_at(values, x):
     """The gap (low, high) of ascending values in which x is, the first one for None; None if x is a value."""
-    place = 0 if x is None else _many_below(values, x)
+    place = 0 if x is None else many_below(values, x)
     high = values[place] if place < len(values) else None
     if x is not None and x == high:
         return None
     return (values[place - 1] if place > 0 else None), high
+
+
+def many_below(values, x):
+    """How many of ascending values are below x."""
+    first, last = 0, len(values)
+    while first < last:
+        middle = (first + last) // 2
+        if values[middle] < x:
+            first = middle + 1
+        else:
+            last = middle
+    return first
 
 
 def is_within(low, value, high):
@@ -77,18 +89,6 @@ def many_in(runs):
 def integers_in(runs):
     """The integers of runs that end."""
     return [value for low, high in runs for value in range(low, high + 1)]
-
-
-def _many_below(values, x):
-    """How many of ascending values are below x."""
-    first, last = 0, len(values)
-    while first < last:
-        middle = (first + last) // 2
-        if values[middle] < x:
-            first = middle + 1
-        else:
-            last = middle
-    return first
 
 
 def _run_place(gap):

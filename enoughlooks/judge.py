@@ -1,9 +1,9 @@
 """The judge, who reads a paper in one pass, and the paper that spares nothing."""
 
-from enoughlooks.forests import children_of, ending, roots_of, through, way_rows
+from enoughlooks.forests import children_of, ending, roots_of, through
 from enoughlooks.forms import is_bound, is_from, is_integer, is_tuple_of
-from enoughlooks.gaps import farthest, gap_at, gap_place, gaps_of, holds_some
-from enoughlooks.gaps import integers_in, many_in, runs_left, values_behind
+from enoughlooks.gaps import farthest, gap_at, gap_place, gaps_of, holds_some, integers_in, many_in, runs_left
+from enoughlooks.looks import layout
 from enoughlooks.papers import level_tells
 from enoughlooks.questions import is_between, range_of
 
@@ -12,13 +12,13 @@ class View:
     """A nested question on tables, laid out for going down the forest, column by column."""
 
     def __init__(self, question, tables):
-        columns, atoms = question[0], question[1]
+        columns = question[0]
         self.roots = roots_of(question)
         self.children = {column: children_of(question, column) for column in columns}
         self.bounds = {column: range_of(question, column) for column in columns}
         self.through = {column: through(question, column) for column in columns}
         self.ending = {column: ending(question, column) for column in columns}
-        self.behind = [values_behind(way_rows(question, tables, atom)) for atom in range(len(atoms))]
+        self.behind = layout(question, tables)
 
     def gaps_at(self, column, prefix):
         """All gaps (atom, low, high) that hold an integer of the range, in the order in which they stand in a LEVEL."""

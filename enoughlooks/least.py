@@ -21,6 +21,23 @@ def least_below(question, tables, column, prefix):
     return level_size(level), level_tells(level)
 
 
+def steps(view, column, prefix):
+    """The integers of which a LEVEL must tell, each with the gap that is taken there, None if it is FULL."""
+    x, last = view.bounds[column]
+    taken = []
+    while x is None or last is None or x <= last:
+        gap = view.gap_from(column, prefix, x)
+        taken.append((x, gap))
+        if gap is None:
+            x += 1
+            continue
+        # From each integer that nothing tells of on, the gap that goes farthest is taken.
+        x = gap[2]
+        if x is None:
+            break
+    return taken
+
+
 def _paper(view, columns, prefix):
     """The PAPER of siblings behind a prefix."""
     levels = tuple([_level(view, column, prefix) for column in columns])
@@ -32,20 +49,10 @@ def _paper(view, columns, prefix):
 
 
 def _level(view, column, prefix):
-    """The LEVEL of a column behind a prefix: from each integer that nothing tells of on, the gap that goes farthest."""
-    x, last = view.bounds[column]
-    gaps, values = [], []
-    while x is None or last is None or x <= last:
-        gap = view.gap_from(column, prefix, x)
-        if gap is None:
-            values.append((x, _told(view, column, prefix + (x,))))
-            x += 1
-            continue
-        gaps.append(gap)
-        x = gap[2]
-        if x is None:
-            break
-    return tuple(gaps), tuple(values)
+    """The LEVEL of a column behind a prefix."""
+    taken = steps(view, column, prefix)
+    values = [(x, _told(view, column, prefix + (x,))) for x, gap in taken if gap is None]
+    return tuple([gap for x, gap in taken if gap is not None]), tuple(values)
 
 
 def _told(view, column, row):

@@ -35,7 +35,13 @@ class TestExamples(unittest.TestCase):
         self.run_stage(7, 15)
 
     def test_stage_8(self):
-        self.run_stage(8, 12)
+        self.run_stage(8, 16)
+
+    def test_stage_9(self):
+        self.run_stage(9, 13)
+
+    def test_stage_10(self):
+        self.run_stage(10, 15)
 
 
 if __name__ == "__main__":

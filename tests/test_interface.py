@@ -32,6 +32,16 @@ FUNCTIONS = {
     "papers": ["boxes_in(paper)", "size_of(paper)", "parts_of(paper)", "shape_told(paper)"],
     "judge": ["is_paper(question, tables, thing)", "plain_paper(question, tables)"],
     "least": ["least(question, tables)", "least_paper(question, tables)", "least_below(question, tables, column, prefix)"],
+    "apart": ["apart_points(question, tables)", "is_apart(question, tables, thing)", "common_box(question, tables, one, other)"],
+    "shapes": ["line_of(question)", "points_of(question, shape)", "shape_of(question, points)", "meet(one, other)",
+               "cut(question, shape, column, low, high)", "without_not(question, shape, atom, rows)", "places_many(shape)",
+               "is_shape(question, thing)", "is_in(question, shape, point)", "is_within(one, other)"],
+    "counting": ["many_of(shape)", "sum_of(question, shape, column)", "before(question, shape, point)", "pages(shape, many)",
+                 "values_of(question, shape, column)", "least_of(question, shape, column)", "greatest_of(question, shape, column)",
+                 "index_of(question, shape, point)", "nth(question, shape, index)", "page(question, shape, many, index)"],
+    "turns": ["begin(question)", "behind(question, state, its)", "result(question, state)", "wanted(question, state)"],
+    "engine": ["run(question, tables)", "run_knowing(question, tables, pairs)", "measured(question, tables)",
+               "is_bounded(question, tables)"],
 }
 CLASSES = {
     "disk": {"Disk": ["__init__(self, files)", "__eq__(self, other)", "files(self)", "do(self, deeds)", "fuse(self, many, fates)",

@@ -85,7 +85,7 @@ class TestLanguage(unittest.TestCase):
 
     def test_imports(self):
         order = ["errors", "forms", "tables", "texts", "pages", "trees", "disk", "journal", "store", "questions", "reader", "meaning",
-                 "forests", "looks", "gaps", "boxes", "papers", "judge", "least"]
+                 "forests", "gaps", "looks", "boxes", "papers", "judge", "least", "apart", "shapes", "counting", "turns", "engine"]
         self.assertEqual(sorted([*order, "__init__"]), sorted(self.texts))
         for place, node in self.nodes(ast.ImportFrom):
             package, module = node.module.split(".")
