@@ -1,6 +1,7 @@
 """Points of which no two lie in one box, as many as the fewest boxes."""
 
 from enoughlooks.boxes import boxes_at
+from enoughlooks.forests import any_below, joined
 from enoughlooks.judge import View
 from enoughlooks.least import steps
 from enoughlooks.looks import layout
@@ -42,12 +43,12 @@ def _choices(view, columns, prefix):
     """For siblings: the list of points, dicts from the columns to values, and an ANSWER, None if there is none."""
     told = [_level_choices(view, column, prefix) for column in columns]
     empty = [choices for choices, answer in told if answer is None]
-    answers = _merged([answer for choices, answer in told if answer is not None])
+    answers = joined([answer for choices, answer in told if answer is not None])
     if empty == []:
-        return [_merged([answers, choice]) for choices, answer in told for choice in choices], answers
+        return [joined([answers, choice]) for choices, answer in told for choice in choices], answers
     # A box is one of a single sibling, so the first points of all, the second ones and so on may share a point.
     many = min([len(choices) for choices in empty])
-    return [_merged([answers] + [choices[place] for choices in empty]) for place in range(many)], None
+    return [joined([answers] + [choices[place] for choices in empty]) for place in range(many)], None
 
 
 def _level_choices(view, column, prefix):
@@ -56,12 +57,12 @@ def _level_choices(view, column, prefix):
     for x, gap in steps(view, column, prefix):
         if gap is not None or view.bar_at(column, prefix + (x,)) is not None:
             value = _below_all(view, column, prefix) if x is None else x
-            told.append(_merged([{column: value}, _any_below(view, column)]))
+            told.append(joined([{column: value}, any_below(view.children, view.bounds, column)]))
             continue
         choices, found = _choices(view, view.children[column], prefix + (x,))
-        told.extend([_merged([{column: x}, choice]) for choice in choices])
+        told.extend([joined([{column: x}, choice]) for choice in choices])
         if found is not None and answer is None:
-            answer = _merged([{column: x}, found])
+            answer = joined([{column: x}, found])
     return told, answer
 
 
@@ -72,17 +73,3 @@ def _below_all(view, column, prefix):
     for atom in view.through[column]:
         ends.extend(view.behind[atom][prefix][:1])
     return min(ends, default=0) - 1
-
-
-def _any_below(view, column):
-    """Any integers of the ranges of all columns below one."""
-    found = {}
-    for child in view.children[column]:
-        bounds = [bound for bound in view.bounds[child] if bound is not None]
-        found[child] = bounds[0] if bounds != [] else 0
-        found = _merged([found, _any_below(view, child)])
-    return found
-
-
-def _merged(dicts):
-    return {column: values[column] for values in dicts for column in values}

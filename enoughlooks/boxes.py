@@ -24,7 +24,7 @@ def true_boxes(question, tables):
 def holds(question, box, point):
     """Whether a BOX HOLDS a POINT."""
     row = on_way(question, box[1], part_of(question, box[1], point))
-    prefix, low, high = _as_gap(box)
+    prefix, low, high = as_gap(box)
     return row[:len(prefix)] == prefix and is_within(low, row[len(prefix)], high)
 
 
@@ -49,6 +49,14 @@ def boxes_at(question, laid, point):
                 found.append(("gap", atom, row[:size]) + gap)
                 break
     return found
+
+
+def as_gap(box):
+    """The prefix of a BOX, and the bounds between which it holds the next value."""
+    if box[0] == "gap":
+        return box[2:]
+    row = box[2]
+    return row[:-1], row[-1] - 1, row[-1] + 1
 
 
 def left_by(question, boxes):
@@ -80,7 +88,7 @@ class Leavings:
         self.free = {}
         ways = [way_of(question, atom) for atom in range(len(question[1]))]
         for box in boxes:
-            self._note(ways[box[1]], _as_gap(box))
+            self._note(ways[box[1]], as_gap(box))
 
     def siblings(self, columns, prefix):
         """What is left of siblings behind a prefix: (places, SHAPE), (0, None) of nothing, (None, None) of too many."""
@@ -155,14 +163,6 @@ def _boxes_of(question, tables, atom):
     behind = values_behind(rows)
     prefixes = [prefix for prefix in behind if len(prefix) < len(columns)]
     return [("gap", atom, prefix, low, high) for prefix in prefixes for low, high in gaps_of(behind[prefix])]
-
-
-def _as_gap(box):
-    """The prefix of a BOX, and the bounds between which it holds the next value."""
-    if box[0] == "gap":
-        return box[2:]
-    row = box[2]
-    return row[:-1], row[-1] - 1, row[-1] + 1
 
 
 def _left(question, boxes, most):

@@ -49,6 +49,21 @@ def forest_of(question):
     return forest
 
 
+def any_below(forest, bounds, column):
+    """Any integers, by columns, that the bounds of all columns below one let."""
+    found = {}
+    for child in forest[column]:
+        ends = [bound for bound in bounds[child] if bound is not None]
+        found[child] = ends[0] if ends != [] else 0
+        found = joined([found, any_below(forest, bounds, child)])
+    return found
+
+
+def joined(parts):
+    """Dicts from columns to values put together, later values taking the place of elder ones."""
+    return {column: values[column] for values in parts for column in values}
+
+
 def way_of(question, atom):
     """The WAY of an ATOM."""
     return _downward(question, question[1][atom][2])

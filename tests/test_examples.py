@@ -43,6 +43,15 @@ class TestExamples(unittest.TestCase):
     def test_stage_10(self):
         self.run_stage(10, 15)
 
+    def test_stage_11(self):
+        self.run_stage(11, 15)
+
+    def test_stage_12(self):
+        self.run_stage(12, 9)
+
+    def test_stage_13(self):
+        self.run_stage(13, 11)
+
 
 if __name__ == "__main__":
     unittest.main()

@@ -13,7 +13,7 @@ METHODS = """append clear copy count endswith extend find get index insert isaln
 keys ljust lower lstrip partition pop remove replace reverse rfind rjust rpartition rsplit rstrip setdefault split splitlines
 startswith strip update upper values zfill bit_length isascii isdecimal isprintable removeprefix removesuffix""".split()
 BARRED = (ast.GeneratorExp, ast.Global, ast.AsyncFunctionDef, ast.Await, ast.AsyncFor, ast.AsyncWith, ast.Div, ast.AnnAssign, ast.Import,
-          ast.Lambda, ast.Yield, ast.YieldFrom, ast.NamedExpr, ast.Starred, ast.Set, ast.SetComp, ast.With, ast.Match, ast.Try)
+          ast.Lambda, ast.Yield, ast.YieldFrom, ast.NamedExpr, ast.Starred, ast.Set, ast.SetComp, ast.With, ast.Match)
 WORDS = """register mro elements open input law version_info with_traceback add_note eval exec compile globals locals vars dir id type
 hash getattr setattr delattr typing enum dataclass namedtuple""".split()
 DUNDERS = ["__init__", "__eq__"]
@@ -72,20 +72,32 @@ class TestLanguage(unittest.TestCase):
             inner = [each for each in ast.walk(node) if isinstance(each, (ast.FunctionDef, ast.ClassDef)) and each is not node]
             self.assertEqual(inner, [], place)
 
+    def test_own_errors_are_caught_by_name(self):
+        own = defined(self.trees["errors"])
+        for place, node in self.nodes(ast.Try):
+            self.assertEqual((node.finalbody, node.orelse, len(node.body)), ([], [], 1), place)
+            for handler in node.handlers:
+                self.assertIn(handler.type.id, own, place)
+        for place, node in self.nodes(ast.Raise):
+            self.assertTrue(node.exc is None or node.exc.func.id in own, place)
+            self.assertIsNone(node.cause, place)
+
     def test_module_level(self):
         for name, tree in self.trees.items():
             kinds = (ast.ImportFrom, ast.FunctionDef, ast.ClassDef, ast.Assign, ast.Expr)
             for node in tree.body:
                 self.assertIsInstance(node, kinds, name)
                 if isinstance(node, (ast.Assign, ast.Expr)):
-                    self.assertIsInstance(node.value, ast.Constant, name)
+                    parts = node.value.elts if isinstance(node.value, ast.Tuple) else [node.value]
+                    self.assertTrue(all(isinstance(part, ast.Constant) for part in parts), name)
             names = bound(tree)
             self.assertEqual(len(names), len(set(names)), name)
             self.assertFalse(set(names) & set(dir(builtins)), name)
 
     def test_imports(self):
         order = ["errors", "forms", "tables", "texts", "pages", "trees", "disk", "journal", "store", "questions", "reader", "meaning",
-                 "forests", "gaps", "looks", "boxes", "papers", "judge", "least", "apart", "shapes", "counting", "turns", "engine"]
+                 "forests", "gaps", "looks", "boxes", "papers", "judge", "least", "apart", "shapes", "counting", "turns", "engine",
+                 "heard", "readers", "others", "kept", "house", "desk"]
         self.assertEqual(sorted([*order, "__init__"]), sorted(self.texts))
         for place, node in self.nodes(ast.ImportFrom):
             package, module = node.module.split(".")

@@ -2,8 +2,11 @@
 
 import random
 
+from enoughlooks.desk import Desk
 from enoughlooks.disk import Disk
 from enoughlooks.errors import Wrong
+from enoughlooks.house import House
+from enoughlooks.kept import Kept
 from enoughlooks.store import Store
 
 PAIRS = (2, ((1, 2), (1, 5), (3, 1)))
@@ -26,6 +29,7 @@ def any_values():
         ((),), (None,), ("leaf",), ("leaf", [(1,)]), ("node", ()), ("put", "r"), ("drop", None), ("note", "q"),
         deep_list(20), tuple(range(4000)), Wrong(0), Disk({}), Store({}), [Disk({}), Store({})], {"a": Store({})},
         (Disk({}), "r", ("a",)), (Wrong(1), Disk({})), ([], {}, Store({})), {Wrong(2): ""},
+        House({}), Desk({}), Kept((("a",), (("has", "r", ("a",)),), ()), {"r": (1, ())}), (House({}), [Desk({})]),
     ]
 
 
